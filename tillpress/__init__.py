@@ -1,0 +1,1 @@
+"""Tillpress: tills of coins, and days of change."""
