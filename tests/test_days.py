@@ -2,11 +2,9 @@
 
 import unittest
 from itertools import product
-from random import Random
 
 from tests.samples import (
-    FIVE, FIVE_DAY, NEVER_DAY, NEVERS, OWED, customers_up_to, falling_ways, plain_levels, plain_served, refusal,
-    tills_up_to, worth,
+    FIVE, FIVE_DAY, NEVER_DAY, NEVERS, OWED, falling_ways, long_days, plain_levels, plain_served, refusal, small_days,
 )
 from tillpress.customers import adds, behind, can_serve
 from tillpress.days import breaks_by, served, till_behind, way_of_break
@@ -14,35 +12,6 @@ from tillpress.errors import NoCoins, NoDay, NoTill
 
 OWED_TWO = (3, [0, 1])
 EVEN = (5, [0, 1])
-
-
-def small_days(many):
-    """Make so many pairs of a till and a day, the same ones each time."""
-    chance = Random(11)
-    out = []
-    for coins, paid in (([1, 2], 2), ([1, 3], 2), ([1, 2, 4], 1), ([1, 2, 6], 1), ([1, 3, 6], 1)):
-        customers = customers_up_to(coins, paid)
-        tills = tills_up_to(coins, 2)
-        for _ in range(many):
-            day = [chance.choice(customers) for _ in range(chance.randrange(5))]
-            out.append((coins, chance.choice(tills), day))
-    return out
-
-
-def long_days(many):
-    """Make so many pairs of a till and a longer day of small prices, the same ones each time."""
-    chance = Random(12)
-    out = []
-    for coins in ([1, 2, 4], [1, 3, 6, 12], [1, 2, 4, 8, 16]):
-        for _ in range(many):
-            day = []
-            while len(day) < 7:
-                paid = [chance.randrange(3) for _ in coins]
-                price = chance.randrange(4)
-                if worth(coins, paid) >= price:
-                    day.append((price, paid))
-            out.append((coins, [chance.randrange(3) for _ in coins], day))
-    return out
 
 
 class TestServed(unittest.TestCase):

@@ -5,7 +5,7 @@ import inspect
 import os
 import unittest
 
-from tests.samples import FUNCTIONS, NEVERS, FIVE, FIVE_DAY, arguments_of, lists_within, refusal
+from tests.samples import FIVE, FIVE_DAY, FUNCTIONS, NEVERS, arguments_of, lists_within, nevers_of, refusal
 from tillpress.customers import all_ways
 from tillpress.days import breaks_by, till_behind, way_of_break
 from tillpress.errors import NoCoins
@@ -24,6 +24,22 @@ INTERFACE = {
     "tillpress.days": {
         "served": ["coins", "till", "day"], "till_behind": ["coins", "till", "day"],
         "way_of_break": ["coins", "till", "day"], "breaks_by": ["coins", "till", "day", "way"],
+    },
+    "tillpress.needs": {
+        "needs": ["coins", "day"], "way_for": ["coins", "day", "level"], "meets": ["coins", "till", "needed"],
+        "least_float": ["coins", "needed"],
+    },
+    "tillpress.tables": {
+        "table_of": ["coins", "day"], "levels_by": ["coins", "levels", "table"], "joined": ["coins", "table", "then"],
+        "often": ["coins", "table", "times"], "are_alike": ["coins", "day", "other"],
+    },
+    "tillpress.likened": {
+        "is_as_good": ["coins", "till", "other"], "parting_row": ["coins", "till", "other"],
+        "put_in_one": ["coins", "till", "other"],
+    },
+    "tillpress.orders": {
+        "needs_in_any_order": ["coins", "day"], "order_for": ["coins", "till", "day"],
+        "may_change_places": ["coins", "customer", "other"],
     },
 }
 
@@ -118,16 +134,16 @@ class TestRefusals(unittest.TestCase):
     def test_each_argument_is_refused_with_its_own_class(self):
         for action, given, refusals in FUNCTIONS:
             for name, error in refusals.items():
-                for thing in NEVERS[error]:
+                for thing in nevers_of(name, error):
                     args = arguments_of(given)
                     args[name] = thing
                     self.assertIs(refusal(action, **args).__class__, error, (action, name, thing))
 
-    def test_of_several_the_first_by_its_place_is_refused(self):
+    def test_of_several_the_first_is_refused(self):
         for action, given, refusals in FUNCTIONS:
             names = list(refusals)
             for k, name in enumerate(names):
-                for thing in (None, True, "", (), [()], {}, 5):
+                for thing in (None, True, "", (), [()], {}, -1):
                     args = arguments_of(given)
                     for later in names[k:]:
                         args[later] = thing
