@@ -8,10 +8,12 @@ from tillpress import coins as coins_file
 from tillpress import customers as customers_file
 from tillpress import days as days_file
 from tillpress import errors as errors_file
+from tillpress import kinds as kinds_file
 from tillpress import likened as likened_file
 from tillpress import needs as needs_file
 from tillpress import orders as orders_file
 from tillpress import tables as tables_file
+from tillpress import texts as texts_file
 
 FIVE = [1, 5, 10, 50, 100]
 OWED = (37, [2, 1, 0, 2, 0])
@@ -21,6 +23,8 @@ FIVE_LEVELS = [3, 8, 48, 48, 248]
 OTHER_TILL = [4, 0, 2, 0, 0]
 FIVE_DAY = [OWED, FIVE_EVEN, OWED]
 FIVE_NEEDS = [0, 0, 26, 26, 26]
+FIVE_KINDS = [OWED, FIVE_EVEN]
+FIVE_TEXT = "coins 1 5 10 50 100\ntill 3 1 4 0 2\npays 37 2 1 0 2 0\npays 100 0 0 0 0 1\npays 37 2 1 0 2 0"
 # The table of a day of OWED alone; he adds 2, 7, -13, 37, 37.
 OWED_TABLE = ([
     [2, 2, -13, -13, -13],
@@ -43,7 +47,7 @@ class Odd:
     """An object of no kind that the program knows."""
 
 
-# None of these is coins, a till, levels, a customer, a day, a way, needs or a table of FIVE.
+# None of these is coins, a till, levels, a customer, a day, a way, needs, a table, kinds or a writing of FIVE.
 NEVER = [
     None, True, False, -1, 0, 1, 7, 10 ** 30, "", "1", "[1, 5]", "coins", b"", b"\x01\x05",
     (), (1, 5), (1, 5, 10, 50, 100), (3, 1, 4, 0, 2), ([1, 5, 10, 50, 100],), (0, 0),
@@ -73,6 +77,13 @@ NEVER_TABLE = NEVER_NEEDS + [
     ([], []), ([[], [], [], [], []], [0] * 5), ([[0] * 5] * 5, [0] * 5), (0, 0), (True, False), ((), ()),
     (tuple(OWED_TABLE[0]), OWED_TABLE[1]), ([tuple(row) for row in OWED_TABLE[0]], OWED_TABLE[1]),
     (OWED_TABLE[0], tuple(OWED_TABLE[1])), {0: OWED_TABLE[0], 1: OWED_TABLE[1]},
+]
+
+NEVER_KINDS = NEVER_DAY + [[], [OWED] * 9, [OWED] * 40, [FIVE_EVEN, OWED, None], [FIVE_KINDS], {0: OWED, 1: OWED}]
+NEVER_TEXT = NEVER_DAY + [
+    FIVE_TEXT.encode(), [FIVE_TEXT], (FIVE_TEXT,), FIVE_TEXT.split("\n"), tuple(FIVE_TEXT.split("\n")),
+    (FIVE, FIVE_TILL, FIVE_DAY), {0: FIVE_TEXT}, {FIVE_TEXT}, FIVE_TEXT + "\n", "\n" + FIVE_TEXT, FIVE_TEXT.upper(),
+    FIVE_TEXT.replace("\n", ";"), FIVE_TEXT.replace("till 3", "till"), " ", "\n", "\n\n", "\t",
 ]
 
 
@@ -133,6 +144,13 @@ FUNCTIONS.extend([
         "coins": errors_file.NoCoins, "till": errors_file.NoTill, "day": errors_file.NoDay}),
     (orders_file.may_change_places, {"coins": FIVE, "customer": OWED, "other": FIVE_EVEN}, {
         "coins": errors_file.NoCoins, "customer": errors_file.NoCustomer, "other": errors_file.NoCustomer}),
+    (kinds_file.needs_for_any, {"coins": FIVE, "kinds": FIVE_KINDS, "times": 3}, {
+        "coins": errors_file.NoCoins, "kinds": errors_file.NoKinds, "times": errors_file.NoTimes}),
+    (kinds_file.are_harmless, {"coins": FIVE, "kinds": FIVE_KINDS}, {
+        "coins": errors_file.NoCoins, "kinds": errors_file.NoKinds}),
+    (texts_file.show_day, {"coins": FIVE, "till": FIVE_TILL, "day": FIVE_DAY}, {
+        "coins": errors_file.NoCoins, "till": errors_file.NoTill, "day": errors_file.NoDay}),
+    (texts_file.read_day, {"text": FIVE_TEXT}, {"text": errors_file.NoText}),
 ])
 
 NEVERS = {
@@ -144,6 +162,8 @@ NEVERS = {
     errors_file.NoNeeds: NEVER_NEEDS,
     errors_file.NoTable: NEVER_TABLE,
     errors_file.NoTimes: NEVER_TIMES,
+    errors_file.NoKinds: NEVER_KINDS,
+    errors_file.NoText: NEVER_TEXT,
 }
 
 

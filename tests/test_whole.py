@@ -8,7 +8,9 @@ import unittest
 from tests.samples import FIVE, FIVE_DAY, FUNCTIONS, NEVERS, arguments_of, lists_within, nevers_of, refusal
 from tillpress.customers import all_ways
 from tillpress.days import breaks_by, till_behind, way_of_break
+from tillpress.desk import Desk
 from tillpress.errors import NoCoins
+from tillpress.tills import Till
 from tillpress.whole import are_counts, is_whole
 
 INTERFACE = {
@@ -41,6 +43,15 @@ INTERFACE = {
         "needs_in_any_order": ["coins", "day"], "order_for": ["coins", "till", "day"],
         "may_change_places": ["coins", "customer", "other"],
     },
+    "tillpress.kinds": {"needs_for_any": ["coins", "kinds", "times"], "are_harmless": ["coins", "kinds"]},
+    "tillpress.texts": {"show_day": ["coins", "till", "day"], "read_day": ["text"]},
+}
+METHODS = {
+    Till: {
+        "__init__": ["self", "coins", "till"], "serve": ["self", "customer"], "swap": ["self", "out", "back"],
+        "put": ["self", "coins_in"], "till": ["self"], "levels": ["self"], "log": ["self"], "__len__": ["self"],
+    },
+    Desk: {"__init__": ["self"], "names": ["self"], "say": ["self", "row"]},
 }
 
 
@@ -50,6 +61,12 @@ class TestInterface(unittest.TestCase):
         for action, given, refusals in FUNCTIONS:
             found.setdefault(action.__module__, {})[action.__name__] = list(inspect.signature(action).parameters)
         self.assertEqual(found, INTERFACE)
+
+    def test_each_method_is_defined_in_its_class_with_its_arguments(self):
+        self.assertEqual([Till.__module__, Desk.__module__], ["tillpress.tills", "tillpress.desk"])
+        for one, methods in METHODS.items():
+            for name, args in methods.items():
+                self.assertEqual(list(inspect.signature(vars(one)[name]).parameters), args, (one, name))
 
     def test_arguments_by_place_and_by_name_in_any_order(self):
         for action, given, refusals in FUNCTIONS:

@@ -70,7 +70,7 @@ def table_of(coins, day):
     check_day(coins, day)
     table = _table_of_none(len(coins))
     for customer in day:
-        table = _both(table, _table_of_one(adds(coins, customer)))
+        table = _both(table, table_of_row(adds(coins, customer)))
     return table
 
 
@@ -80,7 +80,7 @@ def _table_of_none(many):
     return (moves, [0] * many)
 
 
-def _table_of_one(row):
+def table_of_row(row):
     """Give the table of a customer who adds this row."""
     many = len(row)
     moves = []
